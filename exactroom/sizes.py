@@ -30,19 +30,12 @@ def check_cells(value):
         raise InvalidNumber(value)
 
 
-def is_decimal(word):
-    """Return whether the word consists of decimal digits, without leading zeros."""
-    if word == "" or not all([letter in DIGITS for letter in word]):
-        return False
-    return word == "0" or word[0] != "0"
-
-
 def read_size(word):
-    """Return the integer that the word writes, or None if it writes none or one far above every size."""
-    # Python refuses to convert very long words, with an error of its own.
-    if len(word) > len(str(Sizes.MAX_SIZE)) or not is_decimal(word):
+    """Return the size that the word writes in decimal digits without leading zeros, or None if it cannot be one."""
+    # Longer words are above every size, and Python refuses very long ones with an error of its own.
+    if not 1 <= len(word) <= len(str(Sizes.MAX_SIZE)) or word[0] == "0":
         return None
-    return int(word)
+    return int(word) if all([digit in DIGITS for digit in word]) else None
 
 
 def size_problem(values, position):
