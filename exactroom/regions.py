@@ -22,6 +22,19 @@ def next_start(size, address):
     return -(-address // size) * size
 
 
+def gaps_between(ranges, length):
+    """Return the ranges (low, high) of a memory that disjoint ranges, which are listed by address, leave over."""
+    gaps = []
+    low = 0
+    for start, end in ranges:
+        if low < start:
+            gaps.append((low, start))
+        low = end
+    if low < length:
+        gaps.append((low, length))
+    return gaps
+
+
 def lies_below(sizes, level, address, end):
     """Return whether a region of the level starts at the address and has no cell from the end on."""
     size = sizes.size(level)

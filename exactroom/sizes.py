@@ -1,6 +1,7 @@
 """Block sizes that divide each other, and the pieces of objects."""
 
-from exactroom.errors import InvalidCount, InvalidLevel, InvalidNumber, InvalidSizes, InvalidText, TooManyPieces
+from exactroom.errors import InvalidCount, InvalidLevel, InvalidNumber, InvalidNumbers, InvalidSizes, InvalidText
+from exactroom.errors import TooManyPieces
 
 DIGITS = "0123456789"
 LETTERS = "abcdefghijklmnopqrstuvwxyz"
@@ -28,6 +29,15 @@ def check_cells(value):
     """Raise InvalidNumber if the value is no number of cells."""
     if not is_cells(value):
         raise InvalidNumber(value)
+
+
+def check_numbers(value):
+    """Raise InvalidNumbers if the value is no list or tuple of numbers of cells."""
+    if not isinstance(value, (list, tuple)):
+        raise InvalidNumbers(0)
+    for position, cells in enumerate(value):
+        if not is_cells(cells):
+            raise InvalidNumbers(position)
 
 
 def read_size(word):
@@ -118,10 +128,14 @@ class Sizes:
         """Return whether the value, of any kind, is a level of these sizes."""
         return is_integer(level) and 0 <= level <= self.top
 
-    def size(self, level):
-        """Return the size of a level."""
+    def check_level(self, level):
+        """Raise InvalidLevel if the value is no level of these sizes."""
         if not self.has_level(level):
             raise InvalidLevel(level)
+
+    def size(self, level):
+        """Return the size of a level."""
+        self.check_level(level)
         return self.size_list[level]
 
     def level_of(self, cells):

@@ -2,6 +2,9 @@
 
 import unittest
 
+from exactroom.layouts import Layout
+from exactroom.sizes import Sizes
+
 
 class Odd:
     """A value that equals everything, and that can be neither shown nor ordered."""
@@ -62,3 +65,17 @@ class Checks(unittest.TestCase):
         self.assertIs(type(caught.exception), error)
         self.assertEqual(list(vars(caught.exception)), ["value"])
         self.assertIs(caught.exception.value, value)
+
+
+class LayoutCase(Checks):
+    """A test case with the layout of the examples of moves, room and rest, which no call may change."""
+
+    def setUp(self):
+        self.layout = Layout(Sizes([1, 2, 4, 8]), 8)
+        for address in [1, 3, 4, 6]:
+            self.layout.put(0, address)
+        self.before = repr(self.layout)
+
+    def tearDown(self):
+        self.assertEqual(repr(self.layout), self.before)
+        self.same(self.layout.free, 4)
