@@ -122,10 +122,13 @@ class Layout:
         """Return the longest ranges (low, high) of free addresses, by address."""
         return gaps_between(self.ranges_of(self.block_list), self.cell_count)
 
-    def clear_gaps(self):
-        """Return the longest ranges (low, high) of addresses in no pinned block, by address."""
-        pinned = [block for block in self.block_list if block[2]]
-        return gaps_between(self.ranges_of(pinned), self.cell_count)
+    def pinned_ranges(self):
+        """Return the ranges (low, high) of the addresses of the pinned blocks, by address."""
+        return self.ranges_of([block for block in self.block_list if block[2]])
+
+    def unpinned_levels(self):
+        """Return the levels of the unpinned blocks, by the addresses at which they start."""
+        return {address: level for address, level, is_pinned in self.block_list if not is_pinned}
 
     def free_runs(self):
         """Return the runs (level, address, count) of the maximal free regions, by address."""
@@ -153,13 +156,14 @@ class Layout:
 
     def clear_cells(self, level):
         """Return the number of cells in the clear regions of the level."""
-        return self.regions_in(self.clear_gaps(), level) * self.size_table.size(level)
+        gaps = gaps_between(self.pinned_ranges(), self.cell_count)
+        return self.regions_in(gaps, level) * self.size_table.size(level)
 
     def unpinned_cells(self, level):
         """Return the number of cells in the unpinned blocks of this level or higher."""
         self.size_table.check_level(level)
-        return sum([self.size_table.size(block_level) for address, block_level, is_pinned in self.block_list
-                    if block_level >= level and not is_pinned])
+        levels = self.unpinned_levels()
+        return sum([self.size_table.size(levels[address]) for address in levels if levels[address] >= level])
 
     def slack(self, level, *, kept=()):
         """Return how many cells of clear regions of the level no unpinned block and no kept number needs."""

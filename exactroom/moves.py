@@ -13,14 +13,9 @@ def is_move(value):
     return is_address(old) and is_address(new) and old != new
 
 
-def unpinned_levels(layout):
-    """Return the levels of the unpinned blocks, by address."""
-    return {address: level for address, level, is_pinned in layout.blocks() if not is_pinned}
-
-
 def first_misfit(layout, moves):
     """Return the index of the first element that moves no unpinned block, or not to a region, or None."""
-    levels = unpinned_levels(layout)
+    levels = layout.unpinned_levels()
     for position, move in enumerate(moves):
         if not is_move(move) or move[0] not in levels:
             return position
@@ -78,7 +73,7 @@ def is_rearrangement(layout, value):
 def rearranged(layout, moves):
     """Return a new layout after the rearrangement."""
     check_rearrangement(layout, moves)
-    levels = unpinned_levels(layout)
+    levels = layout.unpinned_levels()
     after = layout.clone()
     for old, new in moves:
         after.take_out(old)
@@ -90,14 +85,14 @@ def rearranged(layout, moves):
 def cost(layout, moves):
     """Return the number of cells of the moved blocks."""
     check_rearrangement(layout, moves)
-    levels = unpinned_levels(layout)
+    levels = layout.unpinned_levels()
     return sum([layout.sizes.size(levels[old]) for old, new in moves])
 
 
 def moved_level(layout, moves):
     """Return the highest level of a moved block, or None if there is no move."""
     check_rearrangement(layout, moves)
-    levels = unpinned_levels(layout)
+    levels = layout.unpinned_levels()
     return max([levels[old] for old, new in moves], default=None)
 
 

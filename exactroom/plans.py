@@ -22,12 +22,12 @@ class Plan:
         self.size_table = layout.sizes
         self.cell_count = layout.length
         # Ranges (low, high) that are not available: pinned blocks, and what was given away.
-        self.closed = layout.ranges_of([block for block in layout.blocks() if block[2]])
+        self.closed = layout.pinned_ranges()
         # The levels of the unpinned blocks that are where they were, by address.
-        self.staying = {address: level for address, level, is_pinned in layout.blocks() if not is_pinned}
-        # For each level, the addresses of the blocks that have lost their place and have no other one yet.
+        self.staying = layout.unpinned_levels()
+        # For each level, the addresses of the blocks that have lost their place.
         self.lost = [[] for size in self.size_table.all_sizes()]
-        # The new addresses of blocks that have lost their place, by the old ones.
+        # The new addresses of the blocks that got another place, by the old ones.
         self.goals = {}
 
     def all_moves(self):

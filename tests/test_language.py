@@ -18,6 +18,12 @@ BARRED = set("""
     NamedTuple TypedDict TYPE_CHECKING abstractmethod
 """.split())
 SPECIAL = set("__init__ __eq__ __repr__ __str__ __len__ __enter__ __exit__ __call__ __iter__".split())
+METHODS = set("""
+    append clear copy count endswith extend find get index insert isalnum isalpha isdigit islower isspace isupper items
+    join keys ljust lower lstrip partition pop remove replace reverse rfind rjust rpartition rsplit rstrip setdefault
+    split splitlines startswith strip update upper values zfill bit_length add discard
+""".split())
+BUILTIN_VALUES = ["", b"", 0, [], (), {}, set()]
 FUNCTIONS = (ast.FunctionDef, ast.Lambda)
 
 
@@ -87,6 +93,66 @@ class LanguageTest(unittest.TestCase):
                     self.assertNotIn("%", node.value if isinstance(node.value, str) else "")
                 if isinstance(node, FUNCTIONS):
                     self.assertEqual(node.args.posonlyargs, [])
+
+    def test_no_name_hides_a_builtin_an_import_or_a_class(self):
+        for _, _, tree in self.each():
+            taken = set(vars(builtins)) | {node.name for node in tree.body if isinstance(node, ast.ClassDef)}
+            for node in tree.body:
+                if isinstance(node, ast.ImportFrom):
+                    taken |= {alias.asname or alias.name for alias in node.names}
+            for node in ast.walk(tree):
+                if isinstance(node, ast.Name) and isinstance(node.ctx, ast.Store):
+                    self.assertNotIn(node.id, taken)
+                if isinstance(node, ast.arg):
+                    self.assertNotIn(node.arg, taken)
+
+    def own_names(self):
+        """Return the names of the methods, of the properties, and of the attributes of the classes of the package."""
+        methods, properties, attributes = set(), set(), set()
+        for path in files():
+            for node in ast.walk(ast.parse(path.read_text(encoding="utf-8"))):
+                if isinstance(node, ast.ClassDef):
+                    for part in node.body:
+                        if isinstance(part, ast.FunctionDef):
+                            marks = [getattr(mark, "id", "") for mark in part.decorator_list]
+                            (properties if "property" in marks else methods).add(part.name)
+                if isinstance(node, ast.Attribute) and isinstance(node.ctx, ast.Store):
+                    attributes.add(node.attr)
+        return methods, properties, attributes
+
+    def test_methods_properties_and_attributes_have_different_names(self):
+        methods, properties, attributes = self.own_names()
+        self.assertEqual([methods & attributes, methods & properties, properties & attributes], [set(), set(), set()])
+        for name in methods - SPECIAL | properties | attributes:
+            self.assertFalse(any(hasattr(value, name) for value in BUILTIN_VALUES), name)
+
+    def test_called_methods(self):
+        methods, _, _ = self.own_names()
+        for _, _, tree in self.each():
+            for node in ast.walk(tree):
+                if isinstance(node, ast.Call) and isinstance(node.func, ast.Attribute):
+                    self.assertIn(node.func.attr, methods | METHODS)
+
+    def test_no_generator_expressions(self):
+        # A class has __eq__, so that any, all, min, max, sum and sorted take lists.
+        for _, _, tree in self.each():
+            for node in ast.walk(tree):
+                self.assertNotIsInstance(node, ast.GeneratorExp)
+
+    def test_interface_stands_in_its_files(self):
+        wanted = {
+            "sizes": ["Sizes", "is_integer", "is_name", "is_cells"],
+            "regions": ["is_region", "region_start", "count_regions", "maximal_runs"], "layouts": ["Layout"],
+            "moves": ["is_rearrangement", "rearranged", "cost", "moved_level", "inverse", "composed",
+                      "cheapest_region"],
+            "room": ["room", "limit", "chosen_addresses", "is_room"],
+            "rest": ["rest_counts", "is_at_rest", "settling_moves"],
+        }
+        for path, _, tree in self.each():
+            defined = [node.name for node in tree.body if isinstance(node, (ast.FunctionDef, ast.ClassDef))]
+            for name in wanted.pop(path.stem, []):
+                self.assertIn(name, defined)
+        self.assertEqual(wanted, {})
 
     def test_is_stands_with_constants_only(self):
         for _, _, tree in self.each():
