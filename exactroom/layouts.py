@@ -173,7 +173,6 @@ class Layout:
 
     def short_level(self, numbers):
         """Return the lowest level whose slack is below 0 if these numbers of cells are kept, or None."""
-        check_numbers(numbers)
         for level in range(len(self.size_table)):
             if self.slack(level, kept=numbers) < 0:
                 return level
@@ -188,7 +187,6 @@ class Layout:
 
     def largest(self, *, kept=()):
         """Return the largest number of cells that fits together with the kept ones, or 0 if none does."""
-        check_numbers(kept)
         most = [self.slack(level, kept=kept) + self.size_table.size(level) - 1
                 for level in range(len(self.size_table))]
         return max(0, min(most))

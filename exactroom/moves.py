@@ -130,5 +130,4 @@ def composed(first, second):
 
 def cheapest_region(layout, level):
     """Return the address of the region that costs least to empty, and its cells in blocks, or None."""
-    layout.sizes.check_level(level)
     return Plan(layout).cheapest(level)

@@ -30,8 +30,9 @@ def take_region(sizes, runs, level):
     end = address + sizes.size(found)
     if count > 1:
         runs[found].insert(0, (end, count - 1))
+    # The levels of what is left of a larger region are those at which nothing was found.
     for rest_level, rest_address, rest_count in maximal_runs(sizes, address + sizes.size(level), end):
-        runs[rest_level] = sorted(runs[rest_level] + [(rest_address, rest_count)])
+        runs[rest_level].append((rest_address, rest_count))
     return address
 
 
