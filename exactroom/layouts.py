@@ -1,8 +1,15 @@
 """Layouts: which regions of a memory are blocks, and how much room they leave."""
 
-from exactroom.errors import InvalidAddress, Occupied, UnknownBlock
+from exactroom.errors import InvalidAddress, NoRoom, Occupied, UnknownBlock
 from exactroom.regions import count_regions, gaps_between, is_address, is_region, maximal_runs, next_start
 from exactroom.sizes import check_cells, check_numbers, is_integer
+
+
+def check_fits(layout, numbers):
+    """Raise NoRoom if these numbers of cells do not fit together."""
+    short = layout.short_level(numbers)
+    if short is not None:
+        raise NoRoom(short)
 
 
 class Layout:

@@ -69,13 +69,22 @@ class Plan:
         cells, address = min([(filled[start], start) for start in filled])
         return address, cells
 
-    def close(self, low, high):
-        """Make a range unavailable, so that the blocks in it lose their place."""
-        inside = [address for address in self.staying if low <= address < high]
-        for address in inside:
+    def lose(self, addresses):
+        """Take their places from the blocks that stay at these addresses."""
+        for address in addresses:
             level = self.staying.pop(address)
             self.lost[level].append(address)
+
+    def close(self, low, high):
+        """Make a range unavailable, so that the blocks in it lose their place."""
+        self.lose([address for address in self.staying if low <= address < high])
         self.closed.append((low, high))
+
+    def shorten(self, length):
+        """Make the addresses from the length on unavailable; no pinned block has one of them."""
+        self.lose([address for address, level in self.staying.items()
+                   if address + self.size_table.size(level) > length])
+        self.cell_count = length
 
     def give(self, level):
         """Give away the cheapest region of the level, and return its address."""

@@ -1,6 +1,7 @@
 """Room for the pieces of a number of cells, made by moving smaller blocks."""
 
-from exactroom.errors import InvalidAddress, NoRoom, Occupied
+from exactroom.errors import InvalidAddress, Occupied
+from exactroom.layouts import check_fits
 from exactroom.moves import cost, is_rearrangement, moved_level, rearranged
 from exactroom.plans import Plan
 from exactroom.regions import maximal_runs
@@ -63,9 +64,7 @@ def room_by_moves(layout, levels):
 def room(layout, cells):
     """Return room for so many cells, a tuple (moves, addresses)."""
     levels = layout.sizes.pieces(cells)
-    short = layout.short_level([cells])
-    if short is not None:
-        raise NoRoom(short)
+    check_fits(layout, [cells])
     addresses = chosen_addresses(layout, cells)
     if addresses is not None:
         return [], addresses

@@ -239,15 +239,13 @@ def wrong_move(values, length, blocks, moves):
     return None
 
 
-def is_room(values, length, blocks, cells, value):
-    """Return whether a tuple (moves, addresses) of two lists of the right kinds is room for so many cells."""
+def makes_room(values, length, blocks, cells, value):
+    """Return whether (moves, addresses) is room for so many cells, if it may have any moves."""
     moves, addresses = value
     levels = pieces(values, cells)
     if wrong_move(values, length, blocks, moves) is not None or len(addresses) != len(levels):
         return False
     moved = [level for address, level, _ in blocks if address in dict(moves)]
-    if moves and has_free_regions(values, length, blocks, cells):
-        return False
     if any(level >= levels[0] for level in moved) or sum(values[level] for level in moved) > cells * levels[0]:
         return False
     taken = taken_cells(values, blocks_after(blocks, moves))
@@ -256,3 +254,10 @@ def is_room(values, length, blocks, cells, value):
             return False
         taken = taken | set(cells_of(values, address, level))
     return True
+
+
+def is_room(values, length, blocks, cells, value):
+    """Return whether a tuple (moves, addresses) of two lists of the right kinds is room for so many cells."""
+    if value[0] and has_free_regions(values, length, blocks, cells):
+        return False
+    return makes_room(values, length, blocks, cells, value)

@@ -25,6 +25,18 @@ METHODS = set("""
 """.split())
 BUILTIN_VALUES = ["", b"", 0, [], (), {}, set()]
 FUNCTIONS = (ast.FunctionDef, ast.Lambda)
+# The methods and properties that the interface lists for each class.
+INTERFACE = {
+    "Sizes": "doubling from_text top all_sizes size level_of whole counts pieces __eq__ __len__ __repr__",
+    "Layout": """sizes length free blocks put take_out set_pinned block_at free_runs free_regions free_addresses
+        clear_cells unpinned_cells slack short_level fits largest clone __eq__ __len__ __repr__""",
+    "Memory": """sizes capacity names cells addresses pins set_length layout slack largest request release resize read
+        write stored copy_cells pin unpin address_of owner_of is_at_rest settle clone __eq__ __len__ __repr__""",
+    "Shared": """names cells addresses pins layout release read write stored copy_cells unpin address_of owner_of
+        is_at_rest settle kept reservations reserve withdraw request request_all resize pin set_length slack largest
+        pins_in_the_way plain clone __eq__ __len__ __repr__""",
+    "Journal": "time shared operations clone perform perform_all undo address_now address_then __eq__ __len__",
+}
 
 
 def files():
@@ -146,13 +158,33 @@ class LanguageTest(unittest.TestCase):
             "moves": ["is_rearrangement", "rearranged", "cost", "moved_level", "inverse", "composed",
                       "cheapest_region"],
             "room": ["room", "limit", "chosen_addresses", "is_room"],
-            "rest": ["rest_counts", "is_at_rest", "settling_moves"],
+            "rest": ["rest_counts", "is_at_rest", "settling_moves"], "lengths": ["shortening_moves"],
+            "memory": ["Memory"], "shared": ["Shared"], "journal": ["Journal"],
         }
         for path, _, tree in self.each():
             defined = [node.name for node in tree.body if isinstance(node, (ast.FunctionDef, ast.ClassDef))]
             for name in wanted.pop(path.stem, []):
                 self.assertIn(name, defined)
         self.assertEqual(wanted, {})
+
+    def test_interface_methods_stand_in_their_classes(self):
+        wanted = {name: set(methods.split()) for name, methods in INTERFACE.items()}
+        for _, _, tree in self.each():
+            for node in tree.body:
+                if isinstance(node, ast.ClassDef) and node.name in wanted:
+                    defined = {part.name for part in node.body if isinstance(part, ast.FunctionDef)}
+                    self.assertEqual(wanted.pop(node.name) - defined, set())
+        self.assertEqual(wanted, {})
+
+    def test_generators(self):
+        # Both classes of memories list this generator; otherwise the name of a generator is that of one function.
+        found = []
+        for _, _, tree in self.each():
+            for node in ast.walk(tree):
+                if isinstance(node, ast.FunctionDef) and any(isinstance(part, (ast.Yield, ast.YieldFrom))
+                                                             for part in ast.walk(node)):
+                    found.append(node.name)
+        self.assertEqual(sorted(found), ["free_addresses", "stored", "stored"])
 
     def test_is_stands_with_constants_only(self):
         for _, _, tree in self.each():

@@ -181,7 +181,8 @@ class FarTest(Checks):
         source = random.Random(149)
         for values, length in [([1, 10 ** 6, 10 ** 9], 10 ** 12), ([1, 2, 2 * 10 ** 6], 10 ** 12),
                                ([1, 10, 100, 1000, 10 ** 4, 10 ** 5, 10 ** 6, 10 ** 9], 10 ** 12)]:
-            blocks = far.far_blocks(source, values, length, tries=240)[:200]
+            blocks = far.far_blocks(source, values, length, tries=2500)[:200]
+            self.assertEqual(len(blocks), 200)
             self.assertTrue(self.check(values, length, blocks) > 0)
 
     def test_scattered_cells(self):
