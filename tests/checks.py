@@ -1,5 +1,6 @@
 """What the tests share: wrong values, and checks that do not take True for 1."""
 
+import random
 import unittest
 
 from exactroom.layouts import Layout
@@ -30,6 +31,9 @@ NO_INTEGERS = [
 NO_CELLS = NO_INTEGERS + [0, -1, -5, -(10 ** 12), 10 ** 12 + 1, 10 ** 30]
 NO_ADDRESSES = NO_INTEGERS + [-1, -2, -(10 ** 12), -(10 ** 30)]
 NO_LISTS = [value for value in NO_INTEGERS if not isinstance(value, list)] + [0, 1, -1, (1, 2), (1, 2, 4), {1: 1}]
+# Neither a name nor an integer in the last ones.
+NO_NAMES = [value for value in NO_INTEGERS if value != "a" or isinstance(value, Odd)]
+NO_NAMES += [0, 1, -1, "A", "aB", "abcdefghi", "a b", "a1", " a", "a\n", "a_b", ["a"], ("a",), {"a": "a"}]
 NO_STRINGS = [value for value in NO_INTEGERS if not isinstance(value, str)] + [0, 1, -1, ["1"], ("1",), {"1": "1"}]
 
 
@@ -65,6 +69,53 @@ class Checks(unittest.TestCase):
         self.assertIs(type(caught.exception), error)
         self.assertEqual(list(vars(caught.exception)), ["value"])
         self.assertIs(caught.exception.value, value)
+
+
+def value_of(value):
+    """Return the attributes of the errors that tell about a value."""
+    return {"value": value}
+
+
+class Faults:
+    """The errors of one call, in the sequence in which they are listed, each with arguments that lead to it."""
+
+    def __init__(self, case, call, good, state, by_name=()):
+        self.case = case
+        self.call = call
+        # Arguments that are all right, in the sequence of the parameters, and those that must be passed by name.
+        self.good = good
+        self.by_name = by_name
+        # A function that returns what must not change, nor equal anything else.
+        self.state = state
+        self.rows = []
+
+    def add(self, error, attributes, parameter, values):
+        """Add an error with its attributes, or a function that returns them, and the values of a parameter."""
+        self.rows += [(error, attributes if callable(attributes) else lambda value, told=attributes: told,
+                       parameter, value) for value in values]
+
+    def call_with(self, arguments, error, attributes):
+        parts = [arguments[name] for name in arguments if name not in self.by_name]
+        more = {name: arguments[name] for name in self.by_name if name in arguments}
+        before = self.state()
+        self.case.refused(error, attributes, self.call, *parts, **more)
+        backwards = {name: arguments[name] for name in reversed(list(arguments))}
+        self.case.refused(error, attributes, self.call, **backwards)
+        self.case.assertTrue(self.state() == before)
+
+    def check(self, seed=1):
+        """Check each error alone, together with one of each later parameter, and together with some of them."""
+        source = random.Random(seed)
+        for at, (error, attributes, parameter, value) in enumerate(self.rows):
+            later = [row for row in self.rows[at + 1:] if row[2] != parameter]
+            for share in (0, 1, 0.5):
+                arguments = dict(self.good)
+                for row in source.sample(later, len(later)):
+                    if source.random() < share:
+                        arguments[row[2]] = row[3]
+                arguments[parameter] = value
+                with self.case.subTest(error=error.__name__, parameter=parameter, at=at, share=share):
+                    self.call_with(arguments, error, attributes(value))
 
 
 class LayoutCase(Checks):

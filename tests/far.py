@@ -8,6 +8,11 @@ FAR = [
     ([1, 7, 7 * MILLION, 70 * MILLION, 700 * MILLION], TRILLION - 3),
     ([1, 10, 100, 1000, 10 ** 4, 10 ** 5, MILLION, 10 ** 9], TRILLION - 999),
 ]
+# Lengths of a few large regions, so that a block in the wrong place can be in the way of a large piece.
+TIGHT = [
+    ([1, 2, 2 * MILLION, 4 * MILLION], 20 * MILLION + 3), ([1, MILLION, 3 * MILLION, 6 * MILLION], 24 * MILLION + 5),
+    ([1, 7, 7 * MILLION, 14 * MILLION, 28 * MILLION], 140 * MILLION + 9), ([1, 250 * MILLION, 10 ** 9], 5 * 10 ** 9 - 1),
+]
 
 
 def far_blocks(source, values, length, tries=60):
