@@ -298,6 +298,8 @@ def new_name(source, walk):
 
 def scatter(source, walk):
     """Fill the memory with small objects, and release some of them, so that what is free lies scattered."""
+    for owner, cells in walk.model.reservations[::2]:
+        walk.withdraw(owner, cells)
     small = [1, 1, 1, walk.values[min(1, len(walk.values) - 1)]]
     if walk.model.is_far:
         small = walk.values[-2:-1] or [1]
@@ -351,7 +353,7 @@ def random_step(source, walk, length):
     steps = ["request"] * 6 + ["release"] * 4 + ["resize"] * 3 + ["write"] * 2 + ["look", "copy", "pin", "unpin",
                                                                                   "settle", "length"]
     if walk.is_shared:
-        steps += ["reserve"] * 2 + ["withdraw", "request for an owner", "use", "request_all"]
+        steps += ["reserve"] * 2 + ["withdraw", "request for an owner", "use", "use", "request_all"]
     step = source.choice(steps)
     if step == "request":
         walk.request(new_name(source, walk), cells, kept)
