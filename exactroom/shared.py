@@ -36,7 +36,7 @@ class Shared(Memory):
     HAS_RESERVATIONS = True
 
     def __init__(self, sizes, length):
-        super().__init__(sizes, length)
+        Memory.__init__(self, sizes, length)
         # Tuples (owner, cells), in the sequence in which they were made.
         self.reserved = []
 

@@ -417,6 +417,12 @@ class ValueTest(Checks):
         twin.write("a", 0, 0)
         self.same(twin == eight(("a", 3), ("b", 1)), True)
         self.same(Memory(Sizes([1, 2]), 8) == Memory(Sizes([1, 4]), 8), False)
+        # Exchanged addresses, so that all blocks are the same.
+        twin = eight(("t", 1), ("a", 1))
+        twin.release("t")
+        twin.request("b", 1)
+        other = eight(("a", 1), ("b", 1))
+        self.same([twin == other, twin.names() == other.names(), twin.layout() == other.layout()], [False, True, True])
         # Other addresses.
         twin = eight(("a", 3), ("b", 1), ("c", 1))
         twin.release("b")
