@@ -3,70 +3,6 @@
 from exactroom.errors import InvalidCount, InvalidOperation, UnknownTime
 from exactroom.sizes import is_integer
 
-
-def do_request(shared, operation):
-    """Perform ("request", name, cells, owner)."""
-    word, name, cells, owner = operation
-    return shared.request(name, cells, owner=owner)
-
-
-def do_release(shared, operation):
-    """Perform ("release", name)."""
-    word, name = operation
-    return shared.release(name)
-
-
-def do_resize(shared, operation):
-    """Perform ("resize", name, cells)."""
-    word, name, cells = operation
-    return shared.resize(name, cells)
-
-
-def do_write(shared, operation):
-    """Perform ("write", name, index, value)."""
-    word, name, index, value = operation
-    return shared.write(name, index, value)
-
-
-def do_pin(shared, operation):
-    """Perform ("pin", name)."""
-    word, name = operation
-    return shared.pin(name)
-
-
-def do_unpin(shared, operation):
-    """Perform ("unpin", name)."""
-    word, name = operation
-    return shared.unpin(name)
-
-
-def do_reserve(shared, operation):
-    """Perform ("reserve", owner, cells)."""
-    word, owner, cells = operation
-    return shared.reserve(owner, cells)
-
-
-def do_withdraw(shared, operation):
-    """Perform ("withdraw", owner, cells)."""
-    word, owner, cells = operation
-    return shared.withdraw(owner, cells)
-
-
-def do_settle(shared, operation):
-    """Perform ("settle",)."""
-    return shared.settle()
-
-
-def do_length(shared, operation):
-    """Perform ("length", length)."""
-    word, length = operation
-    return shared.set_length(length)
-
-
-ACTIONS = {
-    "request": do_request, "release": do_release, "resize": do_resize, "write": do_write, "pin": do_pin,
-    "unpin": do_unpin, "reserve": do_reserve, "withdraw": do_withdraw, "settle": do_settle, "length": do_length,
-}
 # How many parts an operation has, its word included.
 PARTS = {
     "request": 4, "release": 2, "resize": 3, "write": 4, "pin": 2, "unpin": 2, "reserve": 3, "withdraw": 3,
@@ -79,6 +15,31 @@ def is_operation(value):
     if not isinstance(value, tuple) or len(value) == 0 or not isinstance(value[0], str):
         return False
     return PARTS.get(value[0]) == len(value)
+
+
+def performed(shared, operation):
+    """Perform an operation on a shared memory, and return what its method returns."""
+    word, *parts = operation
+    if word == "request":
+        name, cells, owner = parts
+        return shared.request(name, cells, owner=owner)
+    if word == "release":
+        return shared.release(*parts)
+    if word == "resize":
+        return shared.resize(*parts)
+    if word == "write":
+        return shared.write(*parts)
+    if word == "pin":
+        return shared.pin(*parts)
+    if word == "unpin":
+        return shared.unpin(*parts)
+    if word == "reserve":
+        return shared.reserve(*parts)
+    if word == "withdraw":
+        return shared.withdraw(*parts)
+    if word == "settle":
+        return shared.settle()
+    return shared.set_length(*parts)
 
 
 class Journal:
@@ -121,8 +82,7 @@ class Journal:
         if not is_operation(operation):
             raise InvalidOperation("no operation")
         after = self.states[-1].clone()
-        action = ACTIONS[operation[0]]
-        result = action(after, operation)
+        result = performed(after, operation)
         self.states.append(after)
         self.done.append(operation)
         return result

@@ -8,7 +8,7 @@ from exactroom.memory import Memory
 from exactroom.rest import is_at_rest
 from exactroom.shared import Shared
 from exactroom.sizes import Sizes
-from tests import far, walks
+from tests import far, plain, walks
 from tests.checks import Checks
 
 SMALL = [([1, 2, 4, 8], 29), ([1, 2, 4], 24), ([1, 3, 6], 31), ([1, 2, 6, 12], 40), ([1, 5], 17), ([1], 9), ([1], 70)]
@@ -142,6 +142,36 @@ class PlaceTest(Checks):
                                  self.outcome(other.clone().resize, name, cells, kept=kept))
         self.assertTrue(differing > 15)
         self.assertEqual(levels, {"granted", 0, 1, 2, 3})
+
+
+class ExactTest(Checks):
+
+    def test_refused_exactly_if_no_arrangement_has_room(self):
+        source = random.Random(315)
+        counts = {True: 0, False: 0}
+        for values, length in [([1, 2, 4], 9), ([1, 3], 8), ([1, 2, 4, 8], 10), ([1, 2, 6], 9)] * 6:
+            memory = Memory(Sizes(values), length)
+            for name in "abcdef":
+                if memory.largest() > 0:
+                    memory.request(name, source.randrange(1, min(memory.largest(), 3) + 1))
+            for name in memory.names()[::2]:
+                memory.release(name)
+            for name in memory.names()[:1]:
+                memory.pin(name)
+            blocks = memory.layout().blocks()
+            for cells in range(1, length + 1):
+                for kept in [[], [1], [2], [source.randrange(1, 5), 1]]:
+                    possible = plain.has_arrangement(values, length, blocks, [cells, *kept])
+                    self.assertEqual(self.is_granted(memory.clone(), cells, kept), possible)
+                    counts[possible] += 1
+        self.assertTrue(min(counts.values()) > 100)
+
+    def is_granted(self, memory, cells, kept):
+        try:
+            memory.request("new", cells, kept=kept)
+        except NoRoom:
+            return False
+        return True
 
 
 class RequestTest(Checks):
