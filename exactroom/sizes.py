@@ -6,6 +6,7 @@ from exactroom.errors import TooManyPieces
 DIGITS = "0123456789"
 LETTERS = "abcdefghijklmnopqrstuvwxyz"
 MAX_NAME = 8
+MAX_DIGITS = 4000
 
 
 def is_integer(value):
@@ -40,12 +41,13 @@ def check_numbers(value):
             raise InvalidNumbers(position)
 
 
-def read_size(word):
-    """Return the size that the word writes in decimal digits without leading zeros, or None if it cannot be one."""
-    # Longer words are above every size, and Python refuses very long ones with an error of its own.
-    if not 1 <= len(word) <= len(str(Sizes.MAX_SIZE)) or word[0] == "0":
+def read_integer(word):
+    """Return the integer that the word writes in decimal digits, with - if it is negative, or None if it is none."""
+    digits = word[1:] if word.startswith("-") else word
+    # Python refuses very long numbers with an error of its own.
+    if not 1 <= len(digits) <= MAX_DIGITS or not all([digit in DIGITS for digit in digits]):
         return None
-    return int(word) if all([digit in DIGITS for digit in word]) else None
+    return int(word) if digits[0] != "0" or word == "0" else None
 
 
 def size_problem(values, position):
@@ -109,7 +111,7 @@ class Sizes:
         """Return the sizes that are written in the text, with one space between them."""
         if not isinstance(text, str):
             raise InvalidText(0)
-        sizes = [read_size(word) for word in text.split(" ")]
+        sizes = [read_integer(word) for word in text.split(" ")]
         try:
             return cls(sizes)
         except InvalidSizes:

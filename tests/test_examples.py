@@ -13,7 +13,7 @@ from tests.checks import Checks
 
 TEXT = (pathlib.Path(__file__).resolve().parent / "examples.txt").read_text(encoding="utf-8")
 PROMPT = ">>> "
-COUNT = 84
+COUNT = 102
 
 
 def sections():

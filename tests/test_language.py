@@ -36,6 +36,8 @@ INTERFACE = {
         is_at_rest settle kept reservations reserve withdraw request request_all resize pin set_length slack largest
         pins_in_the_way plain clone __eq__ __len__ __repr__""",
     "Journal": "time shared operations clone perform perform_all undo address_now address_then __eq__ __len__",
+    "Machine": "__init__ tasks status variables step run outputs shared settle clone",
+    "Desk": "__init__ execute run history journal",
 }
 
 
@@ -160,6 +162,8 @@ class LanguageTest(unittest.TestCase):
             "room": ["room", "limit", "chosen_addresses", "is_room"],
             "rest": ["rest_counts", "is_at_rest", "settling_moves"], "lengths": ["shortening_moves"],
             "memory": ["Memory"], "shared": ["Shared"], "journal": ["Journal"],
+            "programs": ["is_expression", "is_program", "first_problem", "value_of"], "machine": ["Machine"],
+            "texts": ["dump_shared", "load_shared"], "desk": ["Desk"],
         }
         for path, _, tree in self.each():
             defined = [node.name for node in tree.body if isinstance(node, (ast.FunctionDef, ast.ClassDef))]
