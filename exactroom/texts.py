@@ -34,8 +34,8 @@ class Loader:
         word, *parts = line.split(" ")
         if self.size_table is None:
             return word == "sizes" and self.take_sizes(" ".join(parts))
-        if word == "length" or self.target is None:
-            return word == "length" and self.target is None and self.take_length(parts)
+        if self.target is None:
+            return word == "length" and self.take_length(parts)
         if len(parts) != 2:
             return False
         if word == "reserve":

@@ -303,6 +303,15 @@ class CloneTest(Checks):
             self.assertTrue(machine.shared() == twin.shared())
             self.assertIs(type(twin), Machine)
 
+    def test_copies_of_tasks_that_take_no_more_steps(self):
+        machine = Machine(memory(), {"a": [("drop", "x"), ("out", 1)], "b": [("repeat", 2, [("new", "y", 9)])], "c": []})
+        machine.run()
+        twin = machine.clone()
+        self.same([twin.status(task) for task in "abc"], ["failed", "failed", "ended"])
+        for task in "abc":
+            self.refused(NotReady, {"task": task}, twin.step, task)
+        self.same([twin.run(), twin.outputs()], [0, []])
+
     def test_returned_values_are_new(self):
         machine = machine_of(("set", "v", 1), ("out", 1), ("new", "a", 1))
         machine.run()
