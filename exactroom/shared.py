@@ -76,7 +76,7 @@ class Shared(Memory):
         check_owner(owner)
         # This raises the errors of a number of cells.
         self.sizes.pieces(cells)
-        check_fits(self.arrangement, [*self.kept, cells])
+        check_fits(self.arrangement, self.kept + [cells])
         self.reserved.append((owner, cells))
 
     def withdraw(self, owner, cells):
@@ -119,7 +119,7 @@ class Shared(Memory):
     def pins_in_the_way(self, cells):
         """Return the names of the pinned objects each of which alone keeps a request for so many cells from fitting."""
         check_cells(cells)
-        numbers = [*self.kept, cells]
+        numbers = self.kept + [cells]
         if self.arrangement.short_level(numbers) is None:
             return []
         return [name for name, entry in self.entries.items()

@@ -9,20 +9,13 @@ from exactroom.shared import Shared
 from exactroom.sizes import Sizes
 from exactroom.texts import dump_shared, load_shared
 from tests.checks import NO_STRINGS, Checks
+from tests.model import piece_count
 
 TRILLION = 10 ** 12
 NUMBER = "(0|-?[1-9][0-9]*)"
 CELLS = "([1-9][0-9]*)"
 NAME = "([a-z]{1,8})"
 BEGIN = "sizes 1 2 4\nlength 8\n"
-
-
-def piece_count(sizes, cells):
-    count = 0
-    for size in reversed(sizes):
-        count += cells // size
-        cells %= size
-    return count
 
 
 def fits(sizes, length, numbers):
