@@ -88,6 +88,28 @@ class WalkTest(Checks):
             self.assertTrue(seen.get(outcome, 0) > 1, outcome)
 
 
+    def test_two_hundred_blocks(self):
+        source = random.Random(411)
+        for values, length in [([1, 2, 4, 8], 5000), ([1, 10 ** 6, 10 ** 9], TRILLION)]:
+            walk = walks.Walk(self, values, length, shared=True)
+            for at in range(20):
+                walk.request(walks.NAMES[at], sum(source.choice(values) for _ in range(9)))
+                walk.reserve(source.choice(walks.OWNERS), source.randrange(1, 6))
+            while len(walk.model.blocks()) < 200:
+                name = source.choice(walk.model.names())
+                walk.resize(name, walk.model.objects[name].cells + values[-1])
+            self.same(len(walk.memory.layout()), 200)
+            for name in walk.model.names()[::3]:
+                walk.pin(name)
+            for name in walk.model.names()[1::3]:
+                walk.release(name)
+            walk.settle()
+            for owner, cells in walk.model.reservations[::2]:
+                walk.request(walks.new_name(source, walk), cells, owner=owner)
+            for _ in range(30):
+                walks.random_step(source, walk, length)
+
+
 class ReservationTest(Checks):
 
     def test_equal_ones(self):
